@@ -1,0 +1,1 @@
+"""Shuntyard: wagons sorted on side tracks."""
