@@ -6,6 +6,7 @@ from shuntyard.errors import TrackEmpty
 
 LANE = "lane"
 ENTERING = "in"
+LEAVING = "out"
 
 
 class Yard:

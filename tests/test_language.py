@@ -97,15 +97,18 @@ def expression_faults(node):
                 yield "L20: is"
 
 
+def own_methods(tree):
+    classes = [node for node in ast.walk(tree) if isinstance(node, ast.ClassDef)]
+    return {part.name for node in classes for part in node.body if isinstance(part, ast.FunctionDef)}
+
+
+def own_values(tree):
+    """The values that are given to objects."""
+    return {node.attr for node in ast.walk(tree) if isinstance(node, ast.Attribute) and isinstance(node.ctx, ast.Store)}
+
+
 def own_attributes(tree):
-    """The methods that the classes define, and the values that are given to objects."""
-    found = set()
-    for node in ast.walk(tree):
-        if isinstance(node, ast.ClassDef):
-            found.update(part.name for part in node.body if isinstance(part, ast.FunctionDef))
-        elif isinstance(node, ast.Attribute) and isinstance(node.ctx, ast.Store):
-            found.add(node.attr)
-    return found
+    return own_methods(tree) | own_values(tree)
 
 
 def name_faults(tree, known):
@@ -135,16 +138,22 @@ def name_faults(tree, known):
         yield f"L25: the method {name}"
 
 
-def top_faults(tree):
-    names = []
+def defined_names(tree):
+    """The names that a file's top binds, but for those that it imports."""
     for node in tree.body:
         if isinstance(node, (ast.FunctionDef, ast.ClassDef)):
-            names.append(node.name)
-        elif isinstance(node, ast.ImportFrom):
-            names.extend(alias.name for alias in node.names)
+            yield node.name
         elif isinstance(node, ast.Assign):
-            names.extend(target.id for target in node.targets if isinstance(target, ast.Name))
-        elif not (isinstance(node, ast.Expr) and is_docstring(node)):
+            yield from (target.id for target in node.targets if isinstance(target, ast.Name))
+
+
+def top_faults(tree):
+    names = list(defined_names(tree))
+    for node in tree.body:
+        if isinstance(node, ast.ImportFrom):
+            names.extend(alias.name for alias in node.names)
+        elif not isinstance(node, (ast.FunctionDef, ast.ClassDef, ast.Assign)) and not (
+                isinstance(node, ast.Expr) and is_docstring(node)):
             yield "L3: something done at the top"
     if len(names) != len(set(names)):
         yield "L15: a name bound twice"
@@ -187,13 +196,21 @@ class Package(unittest.TestCase):
             rows = [node for node in tree.body if isinstance(node, ast.ImportFrom)]
             drawn[module] = {row.module for row in rows}
             for row in rows:
-                defined = {node.name for node in trees[row.module].body if hasattr(node, "name")}
-                self.assertLessEqual({alias.name for alias in row.names}, defined)
+                self.assertLessEqual({alias.name for alias in row.names}, set(defined_names(trees[row.module])))
         self.assertEqual(drawn["shuntyard.__init__"], set())
         while drawn:
             free = [module for module in drawn if not drawn[module] & set(drawn)]
             self.assertTrue(free, f"a ring of imports: {drawn}")
             drawn = {module: drawn[module] for module in drawn if module not in free}
+
+
+    def test_no_name_is_a_method_and_a_value(self):
+        trees = [ast.parse(path.read_text()) for path in self.files()]
+        methods = set().union(*[own_methods(tree) for tree in trees])
+        values = set().union(*[own_values(tree) for tree in trees])
+        self.assertEqual(methods & values, set())
+        for kind in (str, int, list, dict, set, bytes):
+            self.assertEqual((methods | values) & set(dir(kind)) - DUNDERS, set())
 
 
 class Rules(unittest.TestCase):
